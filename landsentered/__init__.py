@@ -1,0 +1,1 @@
+"""Landsentered: comings and goings, told late and out of order."""

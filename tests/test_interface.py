@@ -1,0 +1,23 @@
+"""The interface's names are there, with arguments by place."""
+
+import importlib
+import inspect
+import unittest
+
+FUNCTIONS = {
+    "boxes": {"is_spot": 1, "is_box": 1, "steps": 2, "has": 2, "steps_to": 2, "steps_between": 2, "square": 2},
+    "shapes": {"shape_of": 1, "is_shape": 1, "lies_in": 2, "size": 1},
+    "depths": {"depth": 2, "nearest": 2, "side": 3},
+}
+
+
+class Interface(unittest.TestCase):
+    def test_functions_and_how_many_arguments(self):
+        for module, functions in FUNCTIONS.items():
+            for name, many in functions.items():
+                there = getattr(importlib.import_module(f"landsentered.{module}"), name)
+                self.assertEqual(len(inspect.signature(there).parameters), many, name)
+
+
+if __name__ == "__main__":
+    unittest.main()
