@@ -1,10 +1,15 @@
 """Spots of the grid, the steps between them, and boxes of spots."""
 
-from landsentered.wholes import is_short
+from landsentered.wholes import is_short, is_whole
+
+
+# Told spots, so those that papers name, may have more figures than a spot that is handed in.
+def is_any_spot(thing):
+    return isinstance(thing, tuple) and len(thing) == 2 and is_whole(thing[0]) and is_whole(thing[1])
 
 
 def is_spot(thing):
-    return isinstance(thing, tuple) and len(thing) == 2 and is_short(thing[0]) and is_short(thing[1])
+    return is_any_spot(thing) and is_short(thing[0]) and is_short(thing[1])
 
 
 def is_box(thing):
@@ -26,6 +31,10 @@ def has(box, spot):
     return steps_to(box, spot) == 0
 
 
+def has_all(box, other):
+    return has(box, other[0]) and has(box, other[1])
+
+
 def steps_to(box, spot):
     return steps_between(box, (spot, spot))
 
@@ -41,6 +50,16 @@ def gap(one, other, way):
 
 def square(spot, r):
     return ((spot[0] - r, spot[1] - r), (spot[0] + r, spot[1] + r))
+
+
+def up_to(box, way, at):
+    high = (at, box[1][1]) if way == 0 else (box[1][0], at)
+    return (box[0], high)
+
+
+def onward_from(box, way, at):
+    low = (at, box[0][1]) if way == 0 else (box[0][0], at)
+    return (low, box[1])
 
 
 # Only of two boxes that have a spot in common.

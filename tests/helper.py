@@ -68,6 +68,88 @@ def random_shapes(seed, many, most_boxes=6, low=-4, high=6, longest=4):
     return [random_shape(chance, most_boxes, low, high, longest) for _ in range(many)]
 
 
+def random_box(chance, low=-5, high=7, longest=5):
+    x = chance.randint(low, high)
+    y = chance.randint(low, high)
+    return ((x, y), (x + chance.randint(0, longest), y + chance.randint(0, longest)))
+
+
+def slow_lacking(shape, box):
+    """The least spot of the box that the shape hasn't, or None."""
+    spots = spots_of_shape(shape)
+    return min((spot for spot in spots_of_box(box) if spot not in spots), default=None)
+
+
+def whole(thing):
+    return thing.__class__ is int
+
+
+def slow_halves(box, way, at):
+    """Both sides of a cut, by the spots of them."""
+    first = [spot for spot in spots_of_box(box) if spot[way] <= at]
+    second = [spot for spot in spots_of_box(box) if spot[way] > at]
+    return (first[0], first[-1]), (second[0], second[-1])
+
+
+def slow_holds(shape, box, thing):
+    """Whether a thing is a cover, by the words of the document, spot by spot."""
+    if thing.__class__ is not tuple or thing[:1] not in (("box",), ("cut",)):
+        return False
+    if thing[0] == "box":
+        if len(thing) != 2 or not whole(thing[1]) or thing[1] not in range(len(shape)):
+            return False
+        return set(spots_of_box(box)) <= set(spots_of_box(shape[thing[1]]))
+    if len(thing) != 5 or not whole(thing[1]) or thing[1] not in (0, 1) or not whole(thing[2]):
+        return False
+    way, at = thing[1], thing[2]
+    if at not in range(box[0][way], box[1][way]):
+        return False
+    first, second = slow_halves(box, way, at)
+    return slow_holds(shape, first, thing[3]) and slow_holds(shape, second, thing[4])
+
+
+def how_deep(thing):
+    """Of a cover: 1 of a box, one more than the deeper side of a cut."""
+    return 1 if thing[0] == "box" else 1 + max(how_deep(thing[3]), how_deep(thing[4]))
+
+
+def other_hand(chance, shape, box, keep_cutting=0):
+    """A cover of a small box that the shape has, cut anywhere, now and then more often than need be."""
+    spots = set(spots_of_box(box))
+    fitting = [k for k in range(len(shape)) if spots <= set(spots_of_box(shape[k]))]
+    ways = [way for way in (0, 1) if box[0][way] < box[1][way]]
+    if fitting and (not ways or chance.random() >= keep_cutting):
+        return ("box", chance.choice(fitting))
+    way = chance.choice(ways)
+    at = chance.randrange(box[0][way], box[1][way])
+    first, second = slow_halves(box, way, at)
+    return ("cut", way, at, other_hand(chance, shape, first, keep_cutting),
+            other_hand(chance, shape, second, keep_cutting))
+
+
+def places_in(thing, ahead=()):
+    """The way to each part of tuples within tuples, the whole itself among them."""
+    told = [ahead]
+    if isinstance(thing, tuple):
+        for k, part in enumerate(thing):
+            told += places_in(part, ahead + (k,))
+    return told
+
+
+def part_at(thing, place):
+    for k in place:
+        thing = thing[k]
+    return thing
+
+
+def put_at(thing, place, part):
+    """The thing with another part at that place."""
+    if not place:
+        return part
+    k = place[0]
+    return thing[:k] + (put_at(thing[k], place[1:], part),) + thing[k + 1:]
+
+
 def as_lists(thing):
     return [as_lists(part) for part in thing] if isinstance(thing, (tuple, list)) else thing
 

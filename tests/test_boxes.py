@@ -1,16 +1,10 @@
 import random
 import unittest
 
-from landsentered.boxes import (cut_out, has, is_box, is_spot, left_over, spots_in, square, steps, steps_between,
-                                steps_to)
-from tests.helper import (BEYOND, HUGE, MOST, ODD_THINGS, slow_steps, slow_steps_between, spots_of_box,
-                          unchanged)
-
-
-def random_box(chance):
-    x = chance.randint(-4, 4)
-    y = chance.randint(-4, 4)
-    return ((x, y), (x + chance.randint(0, 3), y + chance.randint(0, 3)))
+from landsentered.boxes import (cut_out, has, has_all, is_any_spot, is_box, is_spot, left_over, onward_from,
+                                spots_in, square, steps, steps_between, steps_to, up_to)
+from tests.helper import (BEYOND, HUGE, MOST, ODD_THINGS, random_box, slow_halves, slow_steps, slow_steps_between,
+                          spots_of_box, unchanged)
 
 
 class IsSpot(unittest.TestCase):
@@ -40,6 +34,16 @@ class IsSpot(unittest.TestCase):
             self.assertIs(unchanged(self, is_spot, thing), False, thing)
             self.assertIs(is_spot((0, thing)), isinstance(thing, int) and not isinstance(thing, bool)
                           and abs(thing) <= MOST, thing)
+
+
+class IsAnySpot(unittest.TestCase):
+    def test_of_however_many_figures(self):
+        for spot in ((0, 0), (MOST, -MOST), (BEYOND, 0), (0, -BEYOND), (HUGE, HUGE), (-HUGE * HUGE, 1)):
+            self.assertIs(unchanged(self, is_any_spot, spot), True, spot)
+
+    def test_whatever_thing(self):
+        for thing in ODD_THINGS + [[1, 2], (True, 0), (0, False), (1,), (1, 2, 3), ("1", 2)]:
+            self.assertIs(unchanged(self, is_any_spot, thing), False, thing)
 
 
 class IsBox(unittest.TestCase):
@@ -154,8 +158,8 @@ class StepsBetween(unittest.TestCase):
     def test_against_the_spots_one_by_one(self):
         chance = random.Random(4)
         for _ in range(300):
-            one = random_box(chance)
-            other = random_box(chance)
+            one = random_box(chance, -4, 4, 3)
+            other = random_box(chance, -4, 4, 3)
             self.both(one, other, slow_steps_between(one, other))
 
 
@@ -184,19 +188,34 @@ class Pieces(unittest.TestCase):
     def test_cut_out_against_the_spots_one_by_one(self):
         chance = random.Random(7)
         for _ in range(300):
-            one = random_box(chance)
-            other = random_box(chance)
+            one = random_box(chance, -4, 4, 3)
+            other = random_box(chance, -4, 4, 3)
             told = [spot for piece in unchanged(self, cut_out, one, other) for spot in spots_of_box(piece)]
             self.assertEqual(sorted(told), [s for s in spots_of_box(one) if s not in spots_of_box(other)])
 
     def test_left_over_of_several(self):
         chance = random.Random(8)
         for _ in range(100):
-            others = [random_box(chance) for _ in range(5)]
+            others = [random_box(chance, -4, 4, 3) for _ in range(5)]
             gone = {spot for other in others for spot in spots_of_box(other)}
             told = [spot for piece in unchanged(self, left_over, ((-3, -3), (4, 4)), others)
                     for spot in spots_of_box(piece)]
             self.assertEqual(sorted(told), [s for s in spots_of_box(((-3, -3), (4, 4))) if s not in gone])
+
+    def test_has_all_against_the_spots_one_by_one(self):
+        chance = random.Random(9)
+        for _ in range(300):
+            one = random_box(chance, -2, 2, 4)
+            other = random_box(chance, -2, 2, 2)
+            wanted = set(spots_of_box(other)) <= set(spots_of_box(one))
+            self.assertIs(unchanged(self, has_all, one, other), wanted, (one, other))
+
+    def test_both_sides_of_a_cut(self):
+        box = ((-2, 1), (3, 5))
+        for way in (0, 1):
+            for at in range(box[0][way], box[1][way]):
+                told = (unchanged(self, up_to, box, way, at), unchanged(self, onward_from, box, way, at + 1))
+                self.assertEqual(told, slow_halves(box, way, at))
 
     def test_spots_in(self):
         self.assertEqual(spots_in(((0, 0), (0, 0))), 1)

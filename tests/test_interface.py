@@ -8,6 +8,10 @@ FUNCTIONS = {
     "boxes": {"is_spot": 1, "is_box": 1, "steps": 2, "has": 2, "steps_to": 2, "steps_between": 2, "square": 2},
     "shapes": {"shape_of": 1, "is_shape": 1, "lies_in": 2, "size": 1},
     "depths": {"depth": 2, "nearest": 2, "side": 3},
+    "covers": {"covered": 2, "holds_cover": 3},
+    "shows": {"shown": 2, "shows_depth": 3},
+    "withins": {"within": 2, "alike": 2},
+    "tellings": {"is_name": 1, "is_time": 1, "is_telling": 1, "in_order": 1},
 }
 
 
