@@ -15,11 +15,11 @@ def nearest(shape, spot):
     return min([common(piece, reach)[0] for piece in pieces if steps_between(piece, reach) == 0])
 
 
+# By the square of the wobble, which takes far fewer pieces than the depth does.
 def side(shape, wobble, spot):
-    deep = depth(shape, spot)
-    if deep > wobble:
+    if left_over(square(spot, wobble), shape) == []:
         return "in"
-    if deep < -wobble:
+    if steps_away(shape, spot) > wobble:
         return "out"
     return "between"
 

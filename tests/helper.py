@@ -1,6 +1,7 @@
 """What several test files need: odd things, and the document's words gone through spot by spot."""
 
 import copy
+import functools
 import random
 
 MOST = 10 ** 12 - 1
@@ -164,3 +165,134 @@ def unchanged(test, call, *things):
     test.assertEqual(first, second)
     test.assertEqual(things, before)
     return first
+
+
+@functools.lru_cache(maxsize=None)
+def slow_side(shape, wobble, spot):
+    """By the square of the spot and the wobble, spot by spot."""
+    around = ((spot[0] - wobble, spot[1] - wobble), (spot[0] + wobble, spot[1] + wobble))
+    found = {near in spots_of_shape(shape) for near in spots_of_box(around)}
+    return {(True,): "in", (False,): "out"}.get(tuple(found), "between")
+
+
+def slow_level(lands, land, walked=()):
+    """By the words of the document, from outer to outer; walked are those on the way so far."""
+    there = [row for row in lands if row[0] == land]
+    if not there or land in walked:
+        return None
+    if there[0][1] == "":
+        return 1
+    outer = slow_level(lands, there[0][1], walked + (land,))
+    return None if outer is None else outer + 1
+
+
+def slow_looked(lands, held, spot):
+    """Land by land: whether the thing is in it, and so in its outer, and in that one's."""
+    def is_in(row):
+        if slow_level(lands, row[0]) is None:
+            return False
+        found = slow_side(row[2], row[3], spot)
+        if found == "out" or found == "between" and row[0] not in held:
+            return False
+        return row[1] == "" or any(is_in(other) for other in lands if other[0] == row[1])
+    return sorted(row[0] for row in lands if is_in(row))
+
+
+def slow_lands(tellings, land_counts):
+    """Each land as it was told last of those whose time counts; of several at that time the least one counts."""
+    told = []
+    for name in {t[2] for t in tellings if t[0] in ("land", "drop")}:
+        its = [t for t in tellings if t[0] in ("land", "drop") and t[2] == name and land_counts(t[1])]
+        last = min((t for t in its if t[1] == max(u[1] for u in its)), default=("drop",))
+        if last[0] == "land":
+            told.append(last[2:])
+    return tuple(sorted(told))
+
+
+def slow_thing(tellings, thing):
+    """One thing by itself: its rows, each with the part of its time, and what it is behind all of them."""
+    spot, stays, rows = None, {}, []
+
+    def go_on(time, part, ahead, lands, behind):
+        goings = [land for land in stays if land not in behind]
+        comings = [land for land in behind if land not in stays]
+        for land in sorted(goings, key=lambda land: (-slow_level(ahead, land), land)):
+            rows.append(((time, part, thing), (time, thing, "goes", land)))
+            del stays[land]
+        for land in sorted(comings, key=lambda land: (slow_level(lands, land), land)):
+            rows.append(((time, part, thing), (time, thing, "comes", land)))
+            stays[land] = time
+
+    for time in sorted({t[1] for t in tellings}):
+        now = [t for t in tellings if t[1] == time]
+        ahead = slow_lands(tellings, lambda when: when < time)
+        lands = slow_lands(tellings, lambda when: when <= time)
+        if spot is not None and any(t[0] in ("land", "drop") for t in now):
+            go_on(time, 0, ahead, lands, slow_looked(lands, list(stays), spot))
+        if spot is not None and ("free", time, thing) in now:
+            go_on(time, 1, lands, lands, [])
+            spot = None
+        spots = [t[3] for t in now if t[0] == "spot" and t[2] == thing]
+        if spots:
+            spot = min(spots)
+            go_on(time, 2, lands, lands, slow_looked(lands, list(stays), spot))
+    return rows, None if spot is None else (thing, spot, tuple(sorted(stays.items())))
+
+
+def names_of_things(tellings):
+    return sorted({t[2] for t in tellings if t[0] in ("free", "spot")})
+
+
+def slow_history(tellings):
+    """Each thing by itself; then all rows by time, part and thing."""
+    rows = [row for thing in names_of_things(tellings) for row in slow_thing(tellings, thing)[0]]
+    return [row for _, row in sorted(rows, key=lambda row: row[0])]
+
+
+def slow_view_at(tellings, time):
+    told = [t for t in tellings if t[1] <= time]
+    things = [slow_thing(told, thing)[1] for thing in names_of_things(told)]
+    return (slow_lands(told, lambda when: True), tuple(sorted(known for known in things if known is not None)))
+
+
+def slow_stays(rows):
+    """For each coming the first going behind it."""
+    told = []
+    for k, (begin, thing, word, land) in enumerate(rows):
+        if word == "comes":
+            ends = [row[0] for row in rows[k:] if row[1:] == (thing, "goes", land)]
+            told.append((thing, land, begin, ends[0] if ends else None))
+    return told
+
+
+def roomy_shape(chance):
+    """A box round the middle of the small grid, now and then with one more beside it."""
+    first = ((chance.randint(-3, 1), chance.randint(-3, 1)), (chance.randint(2, 6), chance.randint(2, 6)))
+    if chance.random() < 0.6:
+        return (first,)
+    x, y = chance.randint(first[0][0] - 1, first[1][0] + 1), chance.randint(first[0][1] - 1, first[1][1] + 1)
+    return (first, ((x, y), (x + chance.randint(0, 3), y + chance.randint(0, 3))))
+
+
+def random_world(chance, many, last=6, lands=("a", "b", "c", "wood", "z"), things=("a", "fox", "hare")):
+    """Tellings on a small grid, many of them at one time, some told again."""
+    told = []
+    for nth in range(many):
+        time = chance.randint(0, last) if nth >= len(lands) else 0
+        word = chance.choice(["land"] * 3 + ["spot"] * 8 + ["free", "drop"]) if nth >= len(lands) else "land"
+        if word == "land":
+            k = chance.randrange(len(lands))
+            outer = chance.choice(["", ""] + list(lands[:k]) * 2 + [chance.choice(list(lands) + ["gone"])])
+            told.append((word, time, lands[k], outer, roomy_shape(chance), chance.choice([0, 0, 1, 1, 2])))
+        elif word == "drop":
+            told.append((word, time, chance.choice(lands)))
+        elif word == "free":
+            told.append((word, time, chance.choice(things)))
+        else:
+            told.append((word, time, chance.choice(things), (chance.randint(-2, 6), chance.randint(-2, 6))))
+    return told + [chance.choice(told) for _ in range(chance.choice([0, 3])) if told]
+
+
+def random_worlds(seed, many, most=50, lasts=(1, 6, 20), **kinds):
+    chance = random.Random(seed)
+    return [random_world(chance, chance.randint(0, most), last=chance.choice(lasts), **kinds) for _ in range(many)]

@@ -12,6 +12,9 @@ FUNCTIONS = {
     "shows": {"shown": 2, "shows_depth": 3},
     "withins": {"within": 2, "alike": 2},
     "tellings": {"is_name": 1, "is_time": 1, "is_telling": 1, "in_order": 1},
+    "looks": {"level": 2, "looked": 3},
+    "history": {"gone_on": 2, "history": 1, "view_at": 2},
+    "staying": {"stays": 1},
 }
 
 
