@@ -27,13 +27,13 @@ def is_telling(thing):
     if not is_time(thing[1]) or not is_name(thing[2]):
         return False
     if thing[0] == "land":
-        return len(thing) == 6 and is_outer(thing[3]) and is_shape(thing[4]) and is_wobble(thing[5])
+        return len(thing) == 6 and is_name_or_empty(thing[3]) and is_shape(thing[4]) and is_wobble(thing[5])
     if thing[0] == "spot":
         return len(thing) == 4 and is_spot(thing[3])
     return len(thing) == 3 and thing[0] in ("drop", "free")
 
 
-def is_outer(thing):
+def is_name_or_empty(thing):
     return thing == "" or is_name(thing)
 
 
@@ -51,3 +51,8 @@ def in_order(tellings):
 
 def place_of(telling):
     return (telling[1], RANKS[telling[0]], telling[2])
+
+
+# Unlike in_order this keeps those that don't count, lesser ones ahead.
+def all_in_order(tellings):
+    return sorted(tellings, key=lambda telling: (place_of(telling), telling))

@@ -22,6 +22,45 @@ ODD_THINGS = [
 ]
 
 
+NAMES = ["a", "z", "hare", "aaaaaaaa", "abcdefgh", "zzzzzzzz", "m"]
+NO_NAMES = ["", "abcdefghi", "A", "Hare", "hAre", "harE", "hare1", "1", "0hare", "ha re", " ", " hare", "hare ", "hare\n",
+            "\n", "\nhare", "ha\nre", "-", "ha-re", "ha_re", "a.", "`", "{", "@", "[", "~", "a" * 10000, "a" * 9]
+NO_TEXTS = [None, True, False, 0, 7, ("a",), ["a"], ("h", "a"), {"a": "a"}, (), [], {}, deep("a", 29)]
+TIMES = [0, 1, 5, MOST, 10 ** 12]
+NO_TIMES = [-1, 10 ** 12 + 1, HUGE, -HUGE, -10 ** 12, True, False, None, "", "0", "5", (5,), [5], {5: 5}, (), deep(5, 29)]
+
+LAST = 10 ** 12
+# From 0 to 10 both ways: by the wobble 1 (5, 5) is in, (0, 5) between, (-2, 5) out.
+TEN = (((0, 0), (10, 10)),)
+FIVE = (((0, 0), (5, 5)),)
+FAR = (((20, 20), (30, 30)),)
+IN, BETWEEN, OUT = (5, 5), (0, 5), (-2, 5)
+
+
+def land(time, name, outer="", shape=TEN, wobble=1):
+    return ("land", time, name, outer, shape, wobble)
+
+
+def spot(time, name, at=IN):
+    return ("spot", time, name, at)
+
+
+def drop(time, name):
+    return ("drop", time, name)
+
+
+def free(time, name):
+    return ("free", time, name)
+
+
+def comes(time, thing, *lands):
+    return [(time, thing, "comes", name) for name in lands]
+
+
+def goes(time, thing, *lands):
+    return [(time, thing, "goes", name) for name in lands]
+
+
 def spots_of_box(box):
     (x0, y0), (x1, y1) = box
     return [(x, y) for x in range(x0, x1 + 1) for y in range(y0, y1 + 1)]
@@ -296,3 +335,76 @@ def random_world(chance, many, last=6, lands=("a", "b", "c", "wood", "z"), thing
 def random_worlds(seed, many, most=50, lasts=(1, 6, 20), **kinds):
     chance = random.Random(seed)
     return [random_world(chance, chance.randint(0, most), last=chance.choice(lasts), **kinds) for _ in range(many)]
+
+
+class SlowBook:
+    """A book by the words of the document: all that was ever taken is kept, and reckoned anew each time."""
+
+    def __init__(self, late):
+        self.late, self.now, self.all, self.put, self.there = late, None, [], 0, {}
+
+    def edge(self):
+        return 0 if self.now is None else max(0, self.now - self.late)
+
+    def tell(self, telling):
+        if telling[1] < self.edge():
+            return "late", [], []
+        if telling in self.all:
+            return "again", [], []
+        self.all.append(telling)
+        return ("taken",) + self.go_to(telling[1])
+
+    def wait(self, time):
+        return self.go_to(time)
+
+    def go_to(self, time):
+        before = self.edge()
+        self.now = time if self.now is None else max(self.now, time)
+        rows = [row for row in self.rows() if row[0] >= before]
+        return rows, self.heard(before, rows)
+
+    def rows(self):
+        return [row for row in slow_history(self.all) if row[0] < self.edge()]
+
+    def view(self):
+        return slow_view_at(self.all, self.edge() - 1)
+
+    def open_ones(self):
+        rank = {"land": 0, "drop": 0, "free": 1, "spot": 2}
+        return sorted([t for t in self.all if t[1] >= self.edge()], key=lambda t: (t[1], rank[t[0]], t[2], t))
+
+    def watch(self, thing, land, what):
+        self.there[self.put] = (thing, land, what, self.edge())
+        self.put += 1
+        return self.put - 1
+
+    def unwatch(self, number):
+        del self.there[number]
+
+    def heard(self, before, rows):
+        told = []
+        for number, (thing, land, what, put) in self.there.items():
+            for k, row in enumerate(rows):
+                if row[2] == what and thing in ("", row[1]) and land in ("", row[3]):
+                    told.append(((row[0], 1, k, number), (number, row)))
+            if whole(what):
+                for name, place, begin, end in slow_stays(self.rows()):
+                    due = begin + what
+                    if (max(before, put) <= due < self.edge() and (end is None or end - begin >= what)
+                            and thing in ("", name) and land in ("", place)):
+                        told.append(((due, 0, name, place, number), (number, (due, name, "stays", place))))
+        return [pair for _, pair in sorted(told)]
+
+    def cut(self):
+        watchers = tuple((number,) + watcher[:3] for number, watcher in sorted(self.there.items()))
+        return (self.late, self.now, self.view(), tuple(self.open_ones()), watchers, self.put)
+
+
+def some_time_late(chance, tellings, late):
+    """The tellings nearly in the order of their times, some of them late, a few of them too late."""
+    return sorted(tellings, key=lambda t: t[1] + chance.randint(0, late) + (20 if chance.random() < 0.05 else 0))
+
+
+def in_time(chance, tellings, late):
+    """The tellings in an order in which none comes too late: each at most so late behind its time."""
+    return sorted(tellings, key=lambda t: (t[1] + chance.randint(0, min(late, 30)), chance.random()))

@@ -188,6 +188,33 @@ class Form(unittest.TestCase):
                 for part in node.body:
                     self.assertIsInstance(part, (ast.FunctionDef, ast.Pass), place)
 
+    def test_no_name_is_a_method_and_a_value(self):
+        methods = [part.name for _, node in self.every_node() if isinstance(node, ast.ClassDef)
+                   for part in node.body if isinstance(part, ast.FunctionDef)]
+        values = [node.attr for _, node in self.every_node()
+                  if isinstance(node, ast.Attribute) and isinstance(node.ctx, ast.Store)]
+        self.assertEqual(set(methods) & set(values), set())
+        pythons = [name for kind in (str, int, list, dict, set, bytes) for name in dir(kind)]
+        for name in methods + values:
+            self.assertNotIn(name, [other for other in pythons if other not in DUNDERS])
+
+    def test_lists_and_dicts_of_a_top_hold_none_themselves(self):
+        for path in FILES:
+            for node in tree_of(path).body:
+                if isinstance(node, ast.Assign):
+                    held = [part for part in ast.walk(node.value) if isinstance(part, (ast.List, ast.Dict))]
+                    self.assertLessEqual(len(held), 1, path.name)
+
+    def test_sets_are_asked_on_the_spot(self):
+        for path in FILES:
+            tree = tree_of(path)
+            within = [part for node in ast.walk(tree) if isinstance(node, ast.Call) and isinstance(node.func, ast.Name)
+                      and node.func.id in ("len", "sorted") for part in node.args]
+            for node in ast.walk(tree):
+                self.assertNotIsInstance(node, ast.Set, path.name)
+                if isinstance(node, ast.Call) and isinstance(node.func, ast.Name) and node.func.id == "set":
+                    self.assertIn(node, within, path.name)
+
 
 if __name__ == "__main__":
     unittest.main()

@@ -3,39 +3,8 @@ import random
 import unittest
 
 from landsentered.history import EMPTY, gone_on, history, view_at
-from tests.helper import (MOST, names_of_things, random_worlds, slow_history, slow_lands, slow_level, slow_view_at,
-                          unchanged)
-
-LAST = 10 ** 12
-# From 0 to 10 both ways: by the wobble 1 (5, 5) is in, (0, 5) between, (-2, 5) out.
-TEN = (((0, 0), (10, 10)),)
-FIVE = (((0, 0), (5, 5)),)
-FAR = (((20, 20), (30, 30)),)
-IN, BETWEEN, OUT = (5, 5), (0, 5), (-2, 5)
-
-
-def land(time, name, outer="", shape=TEN, wobble=1):
-    return ("land", time, name, outer, shape, wobble)
-
-
-def spot(time, name, at=IN):
-    return ("spot", time, name, at)
-
-
-def drop(time, name):
-    return ("drop", time, name)
-
-
-def free(time, name):
-    return ("free", time, name)
-
-
-def comes(time, thing, *lands):
-    return [(time, thing, "comes", name) for name in lands]
-
-
-def goes(time, thing, *lands):
-    return [(time, thing, "goes", name) for name in lands]
+from tests.helper import (BETWEEN, FAR, FIVE, IN, LAST, MOST, OUT, TEN, comes, drop, free, goes, land, names_of_things,
+                          random_worlds, slow_history, slow_lands, slow_level, slow_view_at, spot, unchanged)
 
 
 def view(lands, things):

@@ -3,13 +3,8 @@ import random
 import unittest
 
 from landsentered.looks import level, looked
-from tests.helper import (MOST, random_worlds, roomy_shape, slow_lands, slow_level, slow_looked, slow_side,
-                          unchanged)
-
-# From 0 to 10 both ways: with the wobble 1 what lies from 1 to 9 is in, what lies from -1 to 11 isn't out.
-TEN = (((0, 0), (10, 10)),)
-FIVE = (((0, 0), (5, 5)),)
-FAR = (((20, 20), (30, 30)),)
+from tests.helper import (FAR, FIVE, MOST, TEN, random_worlds, roomy_shape, slow_lands, slow_level, slow_looked,
+                          slow_side, unchanged)
 
 
 def row(name, outer="", shape=TEN, wobble=1):

@@ -3,20 +3,8 @@ import unittest
 
 from landsentered.history import history
 from landsentered.staying import stays
-from tests.helper import random_worlds, slow_history, slow_stays, unchanged
-
-LAST = 10 ** 12
-TEN = (((0, 0), (10, 10)),)
-FAR = (((20, 20), (30, 30)),)
-IN, BETWEEN, OUT = (5, 5), (0, 5), (-2, 5)
-
-
-def land(time, name, outer="", shape=TEN, wobble=1):
-    return ("land", time, name, outer, shape, wobble)
-
-
-def spot(time, name, at=IN):
-    return ("spot", time, name, at)
+from tests.helper import (BETWEEN, FAR, LAST, OUT, TEN, land, random_worlds, slow_history, slow_stays, spot,
+                          unchanged)
 
 
 class Stays(unittest.TestCase):

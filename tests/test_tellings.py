@@ -3,7 +3,8 @@ import random
 import unittest
 
 from landsentered.tellings import in_order, is_name, is_telling, is_time
-from tests.helper import BEYOND, HUGE, MOST, ODD_THINGS, as_lists, deep, places_in, put_at, unchanged, whole
+from tests.helper import (BEYOND, HUGE, MOST, NAMES, NO_NAMES, NO_TEXTS, NO_TIMES, ODD_THINGS, TIMES, as_lists, deep,
+                          places_in, put_at, unchanged, whole)
 
 SHAPE = (((0, 0), (4, 4)), ((5, 0), (9, 4)))
 LAND = ("land", 5, "wood", "", SHAPE, 2)
@@ -12,14 +13,6 @@ DROP = ("drop", 7, "wood")
 FREE = ("free", 10 ** 12, "hare")
 SPOT = ("spot", 3, "hare", (2, -3))
 GOOD = [LAND, INNER, DROP, FREE, SPOT]
-
-NAMES = ["a", "z", "hare", "aaaaaaaa", "abcdefgh", "zzzzzzzz", "m"]
-NO_NAMES = ["", "abcdefghi", "A", "Hare", "hAre", "harE", "hare1", "1", "0hare", "ha re", " ", " hare", "hare ", "hare\n",
-            "\n", "\nhare", "ha\nre", "-", "ha-re", "ha_re", "a.", "`", "{", "@", "[", "~", "a" * 10000, "a" * 9]
-NO_TEXTS = [None, True, False, 0, 7, ("a",), ["a"], ("h", "a"), {"a": "a"}, (), [], {}, deep("a", 29)]
-TIMES = [0, 1, 5, MOST, 10 ** 12]
-NO_TIMES = [-1, 10 ** 12 + 1, HUGE, -HUGE, -10 ** 12, True, False, None, "", "0", "5", (5,), [5], {5: 5}, (), deep(5, 29)]
-
 
 class IsName(unittest.TestCase):
     def test_one_to_eight_small_letters(self):
